@@ -1,0 +1,1 @@
+"""Oddlong: rows of unlike length, told apart by their first signs."""

@@ -44,3 +44,40 @@ def rest_of(one, other):
     if other.startswith(one):
         return other[len(one):]
     return None
+
+
+def is_number(thing):
+    """Whether a thing is a whole number, which True and False are not."""
+    return isinstance(thing, int) and not isinstance(thing, bool)
+
+
+def length_first(text):
+    """What texts are put in order by: their length, then as texts stand."""
+    return (len(text), text)
+
+
+def rests_of_codes(book):
+    """The rests of each two codes of a book at unlike places."""
+    rests = []
+    for at, (name, code) in enumerate(book):
+        rests.extend(rests_with(book[:at], code))
+    return rests
+
+
+def rests_with(book, text):
+    """The rests of a text and each code of a book."""
+    rests = [rest_of(code, text) for name, code in book]
+    return [rest for rest in rests if rest is not None]
+
+
+def next_layer(rising, layer):
+    """All rising uses, and the sums of each two numbers of the layer ahead, rising."""
+    sums = [layer[at] + layer[at + 1] for at in range(0, len(layer) - 1, 2)]
+    return sorted(rising + sums)
+
+
+def sum_by(last_layer, many):
+    """The least sum of so many names by the last layer of their uses."""
+    if many == 1:
+        return last_layer[0]
+    return sum(last_layer[:2 * many - 2])

@@ -4,6 +4,27 @@ SIGNS = "01"
 SMALL_LETTERS = "abcdefghijklmnopqrstuvwxyz"
 LONGEST_NAME = 8
 
+SPOT_NAMES = ("a", "b", "c", "d")
+GREATEST_NUMBER = 255
+# The name of a size at its place: so many figures to the base of two a number has.
+SIZE_NAMES = ("none", "one", "two", "three", "four", "five", "six", "seven", "eight")
+ROW_KINDS = ("set", "add", "take", "tell", "ask", "jump", "zero", "stop")
+JUMPS = ("jump", "zero")
+# What stands behind the kind in a bare row; in a row of a program a place stands for "near".
+PARTS = {
+    "set": ("spot", "number"),
+    "add": ("spot", "spot"),
+    "take": ("spot", "spot"),
+    "tell": ("spot",),
+    "ask": ("spot",),
+    "jump": ("near",),
+    "zero": ("spot", "near"),
+    "stop": (),
+    "farjump": ("far",),
+    "farzero": ("spot", "far"),
+    "skip": ("many",),
+}
+
 
 def made_of(text, signs):
     """Whether a text has no signs but these."""
@@ -35,6 +56,14 @@ def figures_of(number, many):
         figures.append(str(number & 1))
         number //= 2
     return "".join(figures[::-1])
+
+
+def number_of(figures):
+    """The number that figures to the base of two tell, the greatest first."""
+    number = 0
+    for figure in figures:
+        number = 2 * number + int(figure)
+    return number
 
 
 def rest_of(one, other):

@@ -40,8 +40,7 @@ def whole_reading(book, text):
 
 def reading_from(book, text, place):
     """The names read from a place on, and the places of their codes and of the end."""
-    names_by_code = {code: name for name, code in book}
-    lengths = sorted({len(code) for name, code in book})
+    names_by_code, lengths = lookup_of(book)
     names = []
     places = [place]
     code = code_at(names_by_code, lengths, text, place)
@@ -51,6 +50,11 @@ def reading_from(book, text, place):
         places.append(place)
         code = code_at(names_by_code, lengths, text, place)
     return (names, places)
+
+
+def lookup_of(book):
+    """What codes of a book are looked up by: the names by their codes, and the rising lengths of these."""
+    return ({code: name for name, code in book}, sorted({len(code) for name, code in book}))
 
 
 def code_at(names_by_code, lengths, text, place):

@@ -4,6 +4,12 @@ import copy
 import itertools
 import random
 
+from oddlong.forms import Form
+
+KINDS = ["set", "add", "take", "tell", "ask", "jump", "zero", "stop", "farjump", "farzero", "skip"]
+SPOTS = ["a", "b", "c", "d"]
+SIZES = ["none", "one", "two", "three", "four", "five", "six", "seven", "eight"]
+
 
 def all_codes(longest):
     """All texts of 1 to longest signs."""
@@ -31,7 +37,12 @@ def random_book(source, many, longest):
 
 
 def random_free_book(source, many, longest):
-    """A free book, its codes by splitting one code after another; some left out, some made longer."""
+    """A free book of any names."""
+    return list(zip(names_of(many), random_free_codes(source, many, longest)))
+
+
+def random_free_codes(source, many, longest):
+    """Codes of which none begins another, by splitting one code after another; some left out, some made longer."""
     codes = ["0", "1"]
     while len(codes) < many or source.random() < 0.3:
         short = [code for code in codes if len(code) < longest]
@@ -42,7 +53,157 @@ def random_free_book(source, many, longest):
         codes += [code + "0", code + "1"]
     assert len(codes) >= many
     source.shuffle(codes)
-    return list(zip(names_of(many), codes[:many]))
+    return codes[:many]
+
+
+def random_pairs(source, names, longest):
+    """A free book of just these names, in any order."""
+    pairs = list(zip(names, random_free_codes(source, len(names), longest)))
+    source.shuffle(pairs)
+    return pairs
+
+
+def random_form(source, most_far=16, near=None):
+    """A form of any codes; near and far mostly the least apart, that far jumps be missed too."""
+    while True:
+        kinds = random_pairs(source, KINDS, source.choice([4, 6, 12]))
+        spots = random_pairs(source, SPOTS, source.choice([2, 3, 8]))
+        sizes = random_pairs(source, SIZES, source.choice([4, 5, 9]))
+        few = near or source.randint(2, min(8, most_far - 1))
+        far = source.choice([few + 1, source.randint(few + 1, max(most_far, few + 1))])
+        codes = dict(kinds)
+        if all(len(codes["far" + jump]) + far >= len(codes[jump]) + few for jump in ("jump", "zero")):
+            return Form(kinds, spots, sizes, few, far)
+
+
+def even_form(near=4, far=16):
+    """A form with codes of four, two and four signs, in the order of the names."""
+    return Form([(name, figures(at, 4)) for at, name in enumerate(KINDS)],
+                [(name, figures(at, 2)) for at, name in enumerate(SPOTS)],
+                [(name, figures(at, 4)) for at, name in enumerate(SIZES)], near, far)
+
+
+def figures(number, many):
+    return format(number, "b").zfill(many) if many else ""
+
+
+def written_bare(form, bare):
+    """The text of a bare row, by the words of the document, kind by kind; no distance is refused here."""
+    kinds, spots, sizes = dict(form.kinds), dict(form.spots), dict(form.sizes)
+    text = kinds[bare[0]]
+    if bare[0] == "set":
+        shown = format(bare[2], "b") if bare[2] else ""
+        return text + spots[bare[1]] + sizes[SIZES[len(shown)]] + shown[1:]
+    if bare[0] in ("add", "take"):
+        return text + spots[bare[1]] + spots[bare[2]]
+    if bare[0] in ("tell", "ask"):
+        return text + spots[bare[1]]
+    if bare[0] == "skip":
+        return text + figures(bare[1], 3) + "0" * bare[1]
+    if bare[0] == "stop":
+        return text
+    if bare[0] in ("zero", "farzero"):
+        text += spots[bare[1]]
+    many = form.far if bare[0].startswith("far") else form.near
+    return text + figures(bare[-1] % 2 ** many, many)
+
+
+def distances(many):
+    return range(-2 ** (many - 1), 2 ** (many - 1))
+
+
+def all_bares(form):
+    """All bare rows that a form can write."""
+    bares = [("set", spot, number) for spot in SPOTS for number in range(256)]
+    bares += [(kind, one, other) for kind in ("add", "take") for one in SPOTS for other in SPOTS]
+    bares += [(kind, spot) for kind in ("tell", "ask") for spot in SPOTS]
+    bares += [("stop",)] + [("skip", many) for many in range(8)]
+    for ahead, many in (("", form.near), ("far", form.far)):
+        bares += [(ahead + "jump", distance) for distance in distances(many)]
+        bares += [(ahead + "zero", spot, distance) for spot in SPOTS for distance in distances(many)]
+    return bares
+
+
+def some_bares(source, form, many):
+    """Any bare rows of all kinds."""
+    bares = []
+    for _ in range(many):
+        kind = source.choice(KINDS)
+        bare = (kind,)
+        if kind not in ("jump", "farjump", "stop", "skip"):
+            bare += (source.choice(SPOTS),)
+        if kind in ("add", "take"):
+            bare += (source.choice(SPOTS),)
+        if kind == "set":
+            bare += (source.choice([0, 1, 2, 255, source.randrange(256)]),)
+        if kind == "skip":
+            bare += (source.randrange(8),)
+        if kind.endswith("jump") or kind.endswith("zero"):
+            bare += (source.choice(distances(form.far if kind.startswith("far") else form.near)),)
+        bares.append(bare)
+    return bares
+
+
+class Table:
+    """All bare rows of a form by their texts: what reads them by nothing else."""
+
+    def __init__(self, form):
+        self.bares = {written_bare(form, bare): bare for bare in all_bares(form)}
+        self.lengths = sorted({len(text) for text in self.bares})
+
+    def read(self, text, place):
+        """The pair (bare, end) at a place; None where none is."""
+        found = [(self.bares[text[place:place + many]], place + many) for many in self.lengths
+                 if 0 <= place <= len(text) - many and text[place:place + many] in self.bares]
+        assert len(found) <= 1
+        return found[0] if found else None
+
+
+def random_program(source, many, jumps=0.4):
+    """Any program of so many rows, such a share of them jumps."""
+    program = []
+    for _ in range(many):
+        spot, other = source.choice(SPOTS), source.choice(SPOTS)
+        at = source.choice([0, many, source.randint(0, many), source.randint(0, many)])
+        if source.random() < jumps:
+            row = source.choice([("jump", at), ("zero", spot, at)])
+        else:
+            row = source.choice([("set", spot, source.choice([0, 1, 255, source.randrange(256)])), ("add", spot, other),
+                                 ("take", spot, other), ("tell", spot), ("ask", spot), ("stop",)])
+        program.append(row)
+    return program
+
+
+def jump_places(program):
+    return [at for at, row in enumerate(program) if row[0] in ("jump", "zero")]
+
+
+def bare_row(row, far, distance):
+    """The bare row of a program's row."""
+    ahead = "far" if far else ""
+    if row[0] == "jump":
+        return (ahead + "jump", distance)
+    if row[0] == "zero":
+        return (ahead + "zero", row[1], distance)
+    return row
+
+
+def places_written(form, program, fars):
+    """The places in signs of all rows and of the end, row by row."""
+    places = [0]
+    for at, row in enumerate(program):
+        places.append(places[-1] + len(written_bare(form, bare_row(row, at in fars, 0))))
+    return places
+
+
+def distance_in(program, places, at):
+    return places[program[at][-1]] - places[at + 1]
+
+
+def missed(form, program, fars, jumps):
+    """Those of the jumps that aren't reached where just fars are far."""
+    places = places_written(form, program, fars)
+    return [at for at in jumps if distance_in(program, places, at) not in distances(form.far if at in fars else form.near)]
 
 
 def begins(one, other):
@@ -67,6 +228,11 @@ def same(one, other):
     return repr(one) == repr(other)
 
 
+def plain(handed):
+    """What is handed in, forms as their fields."""
+    return [vars(thing) if isinstance(thing, Form) else thing for thing in handed]
+
+
 def told(ask, handed):
     """What is told, or the refusal's class and its fields."""
     try:
@@ -79,7 +245,7 @@ def check_own(case, ask, *handed):
     """Nothing handed in is changed or kept, and what is told is the asker's own; the answer."""
     kept = copy.deepcopy(handed)
     first = told(ask, handed)
-    case.assertTrue(same(handed, kept), "changed what was handed in")
+    case.assertTrue(same(plain(handed), plain(kept)), "changed what was handed in")
     answer = copy.deepcopy(first)
     lists = lists_in(first)
     case.assertEqual(len({id(one) for one in lists}), len(lists), "two lists are one and the same")
@@ -89,7 +255,7 @@ def check_own(case, ask, *handed):
     case.assertTrue(same(again, answer), "told otherwise when asked again")
     for one in lists:
         one.append("spoilt")
-    case.assertTrue(same(handed, kept), "what is told is what was handed in")
+    case.assertTrue(same(plain(handed), plain(kept)), "what is told is what was handed in")
     case.assertTrue(same(again, answer), "what is told twice is one and the same")
     case.assertTrue(same(told(ask, copy.deepcopy(kept)), answer), "what was told was kept")
     for one in lists_in(handed):

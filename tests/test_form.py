@@ -161,10 +161,14 @@ class FormTest(unittest.TestCase):
         trees = list(self.trees())
         given = {node.attr for path, tree in trees for node in ast.walk(tree)
                  if isinstance(node, ast.Attribute) and isinstance(node.ctx, ast.Store)}
+        classes = [node for path, tree in trees for node in ast.walk(tree) if isinstance(node, ast.ClassDef)]
+        own = {node.name for one in classes for node in one.body if isinstance(node, ast.FunctionDef)}
+        self.assertEqual(own & given, set())
+        self.assertEqual({name for name in (own | given) - {"__init__"} if any(hasattr(one, name) for one in (1, "", b"", [], {}, set()))}, set())
         for path, tree in trees:
             for node in ast.walk(tree):
                 if isinstance(node, ast.Attribute):
-                    self.assertIn(node.attr, METHODS | given, (path, node.lineno))
+                    self.assertIn(node.attr, METHODS | given | own, (path, node.lineno))
 
     def test_walked_at_once(self):
         for path, tree in self.trees():

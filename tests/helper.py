@@ -210,6 +210,62 @@ def begins(one, other):
     return other[:len(one)] == one
 
 
+class Spots:
+    """A machine's spots, what was told, and what is given still, row by row as the document has them."""
+
+    def __init__(self, given):
+        self.numbers = dict.fromkeys(SPOTS, 0)
+        self.left = list(given)
+        self.told = []
+
+    def do(self, row):
+        """Do a row, bare or not; whether it jumps."""
+        match row:
+            case ("set", spot, number):
+                self.numbers[spot] = number
+            case ("add", spot, other):
+                self.numbers[spot] += self.numbers[other]
+            case ("take", spot, other):
+                self.numbers[spot] -= self.numbers[other]
+            case ("tell", spot):
+                self.told.append(self.numbers[spot])
+            case ("ask", spot):
+                self.numbers[spot] = self.left.pop(0) if self.left else 0
+            case ("jump" | "farjump", distance):
+                return True
+            case ("zero" | "farzero", spot, distance):
+                return self.numbers[spot] == 0
+            case _:
+                raise AssertionError(row)
+        for spot in SPOTS:
+            while self.numbers[spot] > 255:
+                self.numbers[spot] -= 256
+            while self.numbers[spot] < 0:
+                self.numbers[spot] += 256
+        return False
+
+    def answer(self, how, at):
+        return (self.told[:], how, tuple(self.numbers[spot] for spot in SPOTS), at)
+
+
+def runs_of_rows(program, given, most):
+    """What a run tells for each count of steps from 0 to most."""
+    spots = Spots(given)
+    at, stopped, answers = 0, False, []
+    for _ in range(most + 1):
+        if stopped or at == len(program):
+            answers.append(spots.answer("stopped", at))
+            continue
+        answers.append(spots.answer("going", at))
+        if program[at] == ("stop",):
+            stopped = True
+        elif spots.do(program[at]):
+            at = program[at][-1]
+        else:
+            at += 1
+    return answers
+
+
 def lists_in(thing):
     """All lists within a thing, itself too."""
     found = []

@@ -1,8 +1,7 @@
 """Whether a paper shows that no text of a book has two readings, or that one has."""
 
-from oddlong.errors import NoName
 from oddlong.shared import is_code, rests_of_codes, rests_with
-from oddlong.texts import written
+from oddlong.texts import text_of
 
 
 def shows_one(book, thing):
@@ -25,14 +24,5 @@ def shows_two(book, thing):
     if not isinstance(thing, tuple) or len(thing) != 3:
         return False
     text, one, other = thing
-    return writes(book, one, text) and writes(book, other, text) and one != other
-
-
-def writes(book, thing, text):
-    """Whether a thing is a list of names that is written as a text."""
-    if not isinstance(thing, list) or not all([isinstance(name, str) for name in thing]):
-        return False
-    try:
-        return written(book, thing) == text
-    except NoName:
-        return False
+    # Of what is no list of names None is told, so a text is asked for first.
+    return isinstance(text, str) and text_of(book, one) == text and text_of(book, other) == text and one != other

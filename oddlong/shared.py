@@ -80,6 +80,11 @@ def is_number(thing):
     return isinstance(thing, int) and not isinstance(thing, bool)
 
 
+def is_numbers(thing):
+    """Whether a thing is a list of numbers."""
+    return isinstance(thing, list) and all([is_number(part) for part in thing])
+
+
 def length_first(text):
     """What texts are put in order by: their length, then as texts stand."""
     return (len(text), text)
@@ -97,6 +102,18 @@ def rests_with(book, text):
     """The rests of a text and each code of a book."""
     rests = [rest_of(code, text) for name, code in book]
     return [rest for rest in rests if rest is not None]
+
+
+def code_ends(book):
+    """The ends of all codes of a book, shorter than these and not empty, each once."""
+    return list({code[at:]: True for name, code in book for at in range(1, len(code))})
+
+
+def lags_behind(book, lag):
+    """The tuples (name, code, later): the lag that comes of a lag and each code, where one does."""
+    rests = [(name, code, rest_of(lag, code)) for name, code in book]
+    # Of a code that is alike the lag nothing is left: both readings come together.
+    return [(name, code, rest) for name, code, rest in rests if rest is not None and rest != ""]
 
 
 def next_layer(rising, layer):

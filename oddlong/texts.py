@@ -12,6 +12,16 @@ def written(book, names):
     return "".join([codes[name] for name in names])
 
 
+def text_of(book, thing):
+    """The text of a thing that is a list of names of a book; None of any other thing."""
+    if not isinstance(thing, list) or not all([isinstance(name, str) for name in thing]):
+        return None
+    try:
+        return written(book, thing)
+    except NoName:
+        return None
+
+
 def read_all(book, text):
     """The list of names that is written as a text of a free book."""
     names, places = whole_reading(book, text)

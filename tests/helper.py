@@ -56,6 +56,79 @@ def random_free_codes(source, many, longest):
     return codes[:many]
 
 
+def codes_below(ahead, longest):
+    """All lists of codes that begin so, of at most so many signs, of which none begins another."""
+    if len(ahead) == longest:
+        return [[], [ahead]]
+    found = [one + other for one in codes_below(ahead + "0", longest) for other in codes_below(ahead + "1", longest)]
+    return found + [[ahead]] if ahead else found
+
+
+def all_free_books(longest):
+    """All free books of codes of at most so many signs."""
+    return [list(zip(names_of(len(codes)), codes)) for codes in codes_below("", longest) if codes]
+
+
+def great_free_books(source, rounds):
+    """Free books of 12 codes of 12 signs, which begin as others end more often than drawn ones do."""
+    books = [list(zip(names_of(12), ["0" * many + "1" for many in range(12)])), [("a", "0" * 12)],
+             list(zip(names_of(12), [("000001" + "011111")[at:] + "000001011111"[:at] for at in range(12)]))]
+    for _ in range(rounds):
+        codes = set()
+        base = source.choice(["01", "001", "0", "011", "0010"])
+        share = source.choice([0, 0.7])
+        while len(codes) < 12:
+            at = source.randrange(12)
+            codes.add((base * 12)[:at] + source.choice("01") + (base * 12)[at + 1:12] if source.random() < share
+                      else "".join(source.choice("01") for _ in range(12)))
+        books.append(list(zip(names_of(12), source.sample(sorted(codes), 12))))
+    return books
+
+
+def free_books_of_many_kinds(source, rounds):
+    """Free books to 12 pairs and 12 signs: cut out of a tree, and drawn of codes that fall in step more often."""
+    books = []
+    for _ in range(rounds):
+        books.append(random_free_book(source, source.randint(1, 12), source.choice([4, 5, 6, 8, 12])))
+        books += [drawn_free_book(source, shape) for shape in ("any", "few ones", "marked", "glued")]
+    return books
+
+
+def drawn_free_book(source, shape):
+    """A free book of a few codes of any signs, of few ones, with a mark at their ends, or glued of a few pieces."""
+    longest = source.choice([4, 6, 8, 12])
+    pieces = [random_code(source, 4) for _ in range(3)]
+    codes = []
+    for _ in range(source.randint(2, 7)):
+        code = random_code(source, longest)
+        if shape == "few ones":
+            code = "".join(source.choice("0001") for _ in range(source.randint(1, longest)))
+        elif shape == "marked":
+            code = (code + "01")[-longest:]
+        elif shape == "glued":
+            code = "".join(source.choice(pieces) for _ in range(source.randint(1, 4)))[:12]
+        if not any(begins(code, other) or begins(other, code) for other in codes):
+            codes.append(code)
+    return list(zip(names_of(len(codes)), codes))
+
+
+def ends_by_hand(book):
+    """The ends of codes, shorter, not empty, by length, then as texts stand."""
+    codes = [code for name, code in book]
+    return sorted({code[-many:] for code in codes for many in range(1, len(code))}, key=lambda end: (len(end), end))
+
+
+def come_of(codes, lag):
+    """The lags that come of a lag and each of the codes."""
+    found = []
+    for code in codes:
+        if code != lag and begins(code, lag):
+            found.append(lag[len(code):])
+        elif code != lag and begins(lag, code):
+            found.append(code[len(lag):])
+    return found
+
+
 def random_pairs(source, names, longest):
     """A free book of just these names, in any order."""
     pairs = list(zip(names, random_free_codes(source, len(names), longest)))
@@ -206,6 +279,38 @@ def missed(form, program, fars, jumps):
     return [at for at in jumps if distance_in(program, places, at) not in distances(form.far if at in fars else form.near)]
 
 
+def skip_sizes(form):
+    """How many signs a skip row may have, and nought for none."""
+    return [0] + [len(written_bare(form, ("skip", many))) for many in range(8)]
+
+
+def sizes_of(form, program):
+    return [len(written_bare(form, bare_row(row, True, 0))) for row in program]
+
+
+def lines_of(place, size, line):
+    return len({sign // line for sign in range(place, place + size)})
+
+
+def sum_forwards(form, program, uses, line, start):
+    """The least sum of rows where what is ahead of them ends at start, from the first row on."""
+    least = {start % line: 0}
+    for size, use in zip(sizes_of(form, program), uses):
+        later = {}
+        for end, total in least.items():
+            for pad in skip_sizes(form):
+                price = total + use * lines_of(end + pad, size, line)
+                key = (end + pad + size) % line
+                later[key] = min(price, later.get(key, price))
+        least = later
+    return min(least.values())
+
+
+def random_uses(source, many):
+    greatest = source.choice([0, 1, 3, 100, 10 ** 12])
+    return [source.choice([0, greatest, source.randint(0, greatest)]) for _ in range(many)]
+
+
 def begins(one, other):
     return other[:len(one)] == one
 
@@ -337,3 +442,11 @@ def odd_things():
         [("a", None)], [("a", True)], [("a", ["0"])], [("a", ("0",))], [(["a"], "0")], [(("a",), "0")], [(1, "0")],
         [(None, "0")], [(True, "1")], deep(29), deep(30), [deep(28)], (deep(28),), [("a", deep(27))], [(deep(27), "0")],
     ]
+
+
+def random_thing(source, depth=0):
+    """Anything made of numbers, True, False, None, texts, lists and tuples."""
+    if depth < 5 and source.random() < 0.6 - 0.08 * depth:
+        parts = [random_thing(source, depth + 1) for _ in range(source.randint(0, 4))]
+        return source.choice([list, tuple])(parts)
+    return source.choice([0, 1, 2, -1, 3, 10 ** 20, True, False, None, "", "0", "1", "01", "10", "a", "q", "w", "one", "other", "0 1", "x\n"])

@@ -6,21 +6,8 @@ from oddlong.errors import OddError, TooFar
 from oddlong.forms import Form
 from oddlong.lines import laid, line_prices
 from oddlong.signrunning import heard, run_signs
-from tests.helper import (KINDS, bare_row, check_own, distances, even_form, figures, jump_places, random_form, random_program, runs_of_rows,
-                          same, written_bare)
-
-
-def skip_sizes(form):
-    """How many signs a skip row may have, and nought for none."""
-    return [0] + [len(written_bare(form, ("skip", many))) for many in range(8)]
-
-
-def sizes_of(form, program):
-    return [len(written_bare(form, bare_row(row, True, 0))) for row in program]
-
-
-def lines_of(place, size, line):
-    return len({sign // line for sign in range(place, place + size)})
+from tests.helper import (KINDS, bare_row, check_own, distances, even_form, figures, jump_places, lines_of, random_form, random_program,
+                          random_uses, runs_of_rows, same, sizes_of, skip_sizes, sum_forwards, written_bare)
 
 
 def sum_of(sizes, places, uses, line):
@@ -41,25 +28,6 @@ def layouts(form, program, start=0):
 def missed_jumps(form, program, places):
     sizes = sizes_of(form, program)
     return [at for at in jump_places(program) if places[program[at][-1]] - places[at] - sizes[at] not in distances(form.far)]
-
-
-def sum_forwards(form, program, uses, line, start):
-    """The least sum of rows where what is ahead of them ends at start, from the first row on."""
-    least = {start % line: 0}
-    for size, use in zip(sizes_of(form, program), uses):
-        later = {}
-        for end, total in least.items():
-            for pad in skip_sizes(form):
-                price = total + use * lines_of(end + pad, size, line)
-                key = (end + pad + size) % line
-                later[key] = min(price, later.get(key, price))
-        least = later
-    return min(least.values())
-
-
-def random_uses(source, many):
-    greatest = source.choice([0, 1, 3, 100, 10 ** 12])
-    return [source.choice([0, greatest, source.randint(0, greatest)]) for _ in range(many)]
 
 
 class LaidTest(unittest.TestCase):

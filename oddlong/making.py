@@ -19,16 +19,11 @@ def made(form, program):
 
 def why_far(form, program):
     """A paper of the far jumps: pairs (place, distance), each not reached near with those ahead far."""
+    many = len(least_fars(form, program))
     sizes = row_sizes(form, program)
     paper = []
-    missed = missed_near(form, program, sizes, [])
-    # A jump that isn't reached near isn't either with more far ones: rows only grow, and so do distances.
-    while missed:
-        paper.append(missed[0])
-        missed = missed_near(form, program, sizes, [at for at, distance in paper])
-    fars = sorted([at for at, distance in paper])
-    places = places_with(sizes, fars)
-    refuse_missed(missed_among(program, places, places[1:], fars, form.far))
+    while len(paper) < many:
+        paper.append(missed_near(form, program, sizes, [at for at, distance in paper])[0])
     return paper
 
 
@@ -39,7 +34,16 @@ def far_sum(form, program):
 
 def least_fars(form, program):
     """The rising list of the places of the far jumps."""
-    return sorted([at for at, distance in why_far(form, program)])
+    sizes = row_sizes(form, program)
+    fars = []
+    missed = missed_near(form, program, sizes, fars)
+    # A jump that isn't reached near isn't either with more far ones: rows only grow, and so do distances.
+    while missed:
+        fars = sorted(fars + [at for at, distance in missed])
+        missed = missed_near(form, program, sizes, fars)
+    places = places_with(sizes, fars)
+    refuse_missed(missed_among(program, places, places[1:], fars, form.far))
+    return fars
 
 
 def jumps_of(program):

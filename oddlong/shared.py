@@ -10,6 +10,8 @@ GREATEST_NUMBER = 255
 SIZE_NAMES = ("none", "one", "two", "three", "four", "five", "six", "seven", "eight")
 ROW_KINDS = ("set", "add", "take", "tell", "ask", "jump", "zero", "stop")
 JUMPS = ("jump", "zero")
+# What the jumps among the bare rows, near and far, are called in a program.
+NEAR_KINDS = {"jump": "jump", "zero": "zero", "farjump": "jump", "farzero": "zero"}
 # What stands behind the kind in a bare row; in a row of a program a place stands for "near".
 PARTS = {
     "set": ("spot", "number"),

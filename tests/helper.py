@@ -247,6 +247,37 @@ def random_program(source, many, jumps=0.4):
     return program
 
 
+def some_jumping_bares(source, form, many, wild=0.0):
+    """Any bare rows whose jumps lead to where one begins, or to the end, but such a share of them to anywhere; and their places."""
+    bares = some_bares(source, form, many)
+    places = [0]
+    for bare in bares:
+        places.append(places[-1] + len(written_bare(form, bare)))
+    for at, bare in enumerate(bares):
+        if bare[0].endswith("jump") or bare[0].endswith("zero"):
+            reached = distances(form.far if bare[0].startswith("far") else form.near)
+            goals = [place - places[at + 1] for place in places if place - places[at + 1] in reached]
+            if source.random() >= wild:
+                bares[at] = bare[:-1] + (source.choice(goals),)
+    return bares, places
+
+
+def program_by_hand(bares, places):
+    """The program that bare rows at these places tell, by the words of the document; the first jump's place that leads elsewhere."""
+    rows = [at for at, bare in enumerate(bares) if bare[0] != "skip"]
+    program = []
+    for at in rows:
+        bare = bares[at]
+        if bare[0] in ("jump", "zero", "farjump", "farzero"):
+            goal = places[at + 1] + bare[-1]
+            if goal not in places:
+                return places[at]
+            later = [row for row in rows if places[row] >= goal]
+            bare = (bare[0].replace("far", ""),) + bare[1:-1] + (rows.index(later[0]) if later else len(rows),)
+        program.append(bare)
+    return program
+
+
 def jump_places(program):
     return [at for at, row in enumerate(program) if row[0] in ("jump", "zero")]
 
@@ -309,6 +340,28 @@ def sum_forwards(form, program, uses, line, start):
 def random_uses(source, many):
     greatest = source.choice([0, 1, 3, 100, 10 ** 12])
     return [source.choice([0, greatest, source.randint(0, greatest)]) for _ in range(many)]
+
+
+def sum_by_depths(uses, most):
+    """The least sum of a book for uses: signs gone down depth by depth, by how many codes end and how many go on."""
+    falling = sorted((use for name, use in uses), reverse=True)
+    many = len(falling)
+    left = [sum(falling[at:]) for at in range(many + 1)]
+    costs = {(0, 1): 0}
+    best = None
+    for depth in range(most):
+        later = {}
+        for (ended, going), cost in costs.items():
+            room = min(2 * going, many)
+            for end in range(0, min(room, many - ended) + 1):
+                total = cost + left[ended]
+                if ended + end == many:
+                    best = total if best is None else min(best, total)
+                elif room - end > 0:
+                    key = (ended + end, room - end)
+                    later[key] = min(total, later.get(key, total))
+        costs = later
+    return best
 
 
 def begins(one, other):

@@ -8,7 +8,7 @@ from oddlong.errors import TooFull
 from oddlong.least import layers_of, least_book, least_sum
 from oddlong.leastcheck import shows_least
 from oddlong.readings import two_readings
-from tests.helper import check_own, deep, names_of, odd_things, same
+from tests.helper import check_own, deep, names_of, odd_things, same, sum_by_depths
 
 
 def sum_gone_through(uses, most):
@@ -18,28 +18,6 @@ def sum_gone_through(uses, most):
         if sum(2 ** (most - length) for length in lengths) <= 2 ** most:
             total = sum(use * length for (name, use), length in zip(uses, lengths))
             best = total if best is None else min(best, total)
-    return best
-
-
-def sum_by_depths(uses, most):
-    """The same for many names: signs gone down depth by depth, by how many codes end and how many go on."""
-    falling = sorted((use for name, use in uses), reverse=True)
-    many = len(falling)
-    left = [sum(falling[at:]) for at in range(many + 1)]
-    costs = {(0, 1): 0}
-    best = None
-    for depth in range(most):
-        later = {}
-        for (ended, going), cost in costs.items():
-            room = min(2 * going, many)
-            for end in range(0, min(room, many - ended) + 1):
-                total = cost + left[ended]
-                if ended + end == many:
-                    best = total if best is None else min(best, total)
-                elif room - end > 0:
-                    key = (ended + end, room - end)
-                    later[key] = min(total, later.get(key, total))
-        costs = later
     return best
 
 

@@ -306,7 +306,8 @@ class ShowsTwoTest(unittest.TestCase):
                       ("01", [True], other), ("01", [None], other), ("01", one, [("b", "c")]), ("01", one, [other]), (1, one, other),
                       (True, one, other), (None, one, other), (["0", "1"], one, other), (("01",), one, other), ("01\n", one, other),
                       ("01", one, ["b", "c "]), ("01", one, ["B", "c"]), ("01", deep(29), other), ("01", one, [deep(28)]),
-                      (deep(29), one, other), (("01", one, other),), [("01", one, other)]):
+                      (deep(29), one, other), (("01", one, other),), [("01", one, other)], (None, None, True), (None, ["e"], ["f"]),
+                      (None, "a", "d"), (None, [], None)):
             self.assertIs(shows_two(self.BOOK, thing), False, thing)
 
     def test_wrong_things(self):
